@@ -43,12 +43,7 @@ func GetNum(b []byte, at int) (int, int, bool) {
 }
 
 func PutText(s string) []byte {
-	length := PutNum(len(s))
-	if len(length) == 0 {
-		// Without its length a text could not be read back.
-		return nil
-	}
-	return append(length, s...)
+	return append(PutNum(len(s)), s...)
 }
 
 func GetText(b []byte, at int) (string, int, bool) {

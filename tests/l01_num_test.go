@@ -213,6 +213,14 @@ func TestPutText(t *testing.T) {
 	}
 }
 
+func TestPutTextIsItsLengthAndItsBytes(t *testing.T) {
+	for _, s := range sampleTexts() {
+		if got := impl.PutText(s); !bytes.Equal(got, slices.Concat(impl.PutNum(len(s)), []byte(s))) {
+			t.Errorf("PutText of %d bytes = %d bytes", len(s), len(got))
+		}
+	}
+}
+
 func TestGetTextReadsWhatPutTextWrites(t *testing.T) {
 	for _, s := range sampleTexts() {
 		put := impl.PutText(s)

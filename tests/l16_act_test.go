@@ -70,7 +70,7 @@ func certifyByWords(c impl.Conf, r impl.Rep, p impl.Part) (impl.Rep, bool) {
 	if next > after.View && next <= 60 {
 		after.View = next
 	}
-	if to := rootByWords(c, next); to != r.Id {
+	if to := rootByWords(c, next); to != r.Id && next <= 60 {
 		told, ok := tellByWords(c, after, to, viewMsg(next, r.Id, q))
 		if !ok {
 			return r, false
@@ -473,13 +473,14 @@ func TestClimbAtEachView(t *testing.T) {
 		for at := 1; at <= 60; at++ {
 			r := impl.Rep{Id: view % 4, View: at, Table: []impl.Part{partOf(view, name, 0, 1, 2)}}
 			want := cloneRep(r)
+			want.Safe = safeOf(0, 0, q, "")
+			want.Disk = diskOf(string(noteWritten(want.Safe)), 0)
 			if view < 60 {
-				want.Safe = safeOf(0, 0, q, "")
-				want.View, want.Disk = max(at, view+1), diskOf(string(noteWritten(want.Safe)), 0)
+				want.View = max(at, view+1)
 				want.Held = []impl.Post{postOf((view+1)%4, viewMsg(view+1, view%4, q))}
 			}
 			got, ok := impl.Climb(c, r, view, name, false)
-			if ok != (view < 60) || !sameRep(got, want) {
+			if !ok || !sameRep(got, want) || !impl.Kept(c, got) {
 				t.Fatalf("Climb of view %d at View %d = %v, %v, want %v", view, at, got, ok, want)
 			}
 		}
@@ -512,6 +513,48 @@ func TestClimbNeedsRoom(t *testing.T) {
 				t.Errorf("Climb of another one, with room for %d bytes and %d held = %v", left, many, ok)
 			}
 		}
+	}
+}
+
+// TestClimbInTheLastView: there is no view to go to, and nobody to tell, so that
+// no room to tell is needed; what is certified is written, where there is room.
+func TestClimbInTheLastView(t *testing.T) {
+	for _, c := range rightConfs() {
+		for _, name := range []string{"/60|", "/58|/59|/60|"} {
+			who := viewsFrom(0, enoughOf(c.N))
+			q := qcOf(60, name, who...)
+			for _, at := range []int{1, 59, 60} {
+				few := impl.Rep{Id: 60 % c.N, View: at, Table: []impl.Part{partOf(60, name, who[1:]...)}}
+				for _, push := range []bool{false, true} {
+					if got, ok := impl.Climb(c, few, 60, name, push); ok || !sameRep(got, few) {
+						t.Errorf("%v: Climb of too few at View %d = %v, %v", c, at, got, ok)
+					}
+					full := impl.Rep{Id: 60 % c.N, View: at, Table: []impl.Part{partOf(60, name, who...)}}
+					full.Held = heldTimes(mostHeld, postOf((full.Id+1)%c.N, txMsg(impl.Tx{})))
+					want := cloneRep(full)
+					want.Safe = seeByWords(c, full.Safe, q)
+					want.Disk = diskOf(string(noteWritten(want.Safe)), 0)
+					got, ok := impl.Climb(c, full, 60, name, push)
+					if !ok || !sameRep(got, want) || !impl.Kept(c, got) {
+						t.Errorf("%v: Climb of enough at View %d = %v, %v", c, at, got, ok)
+					}
+					if again, ok := impl.Climb(c, got, 60, name, push); !ok || !sameRep(again, want) {
+						t.Errorf("%v: Climb twice at View %d = %v, %v", c, at, again, ok)
+					}
+				}
+			}
+		}
+	}
+	c := impl.Conf{N: 4, Fan: 2}
+	seen := safeOf(0, 0, qcOf(60, "/60|", 0, 1, 2), "")
+	long := len(noteWritten(seen))
+	for _, left := range []int{0, long - 1, long, long + 1} {
+		r := fullBut(left)
+		r.Id, r.Table = 0, []impl.Part{partOf(60, "/60|", 0, 1, 2)}
+		if got, ok := impl.Climb(c, r, 60, "/60|", false); ok != (left >= long) || !ok && !sameRep(got, r) {
+			t.Errorf("Climb in the last view with room for %d bytes = %v", left, ok)
+		}
+		checkClimb(t, c, r, 60, "/60|", false)
 	}
 }
 

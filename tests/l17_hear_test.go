@@ -1145,7 +1145,7 @@ func TestHearTxsAsTheWordsSay(t *testing.T) {
 func hearers() []impl.Rep {
 	var out []impl.Rep
 	for id := range 4 {
-		for _, view := range []int{1, 3, 6, 60} {
+		for _, view := range []int{1, 6, 60} {
 			r := keptRep(id, safeOf(2, 0, qcOf(2, "/1|0>1:5#0/2|", 0, 1, 2), "/1|0>1:5#0"))
 			r.View, r.Table = view, fullTable()[:12]
 			r.Pool = []impl.Tx{{From: 0}, {From: 0, Nonce: 1}, {From: 1}}

@@ -1177,6 +1177,37 @@ func TestHear(t *testing.T) {
 	}
 }
 
+// TestHearIsTheFunctionOfItsKind: Hear finds who hears in a map, each other
+// function without it. Both answer alike, of each kind.
+func TestHearIsTheFunctionOfItsKind(t *testing.T) {
+	c := impl.Conf{N: 4, Fan: 2}
+	done, not := map[int]int{}, map[int]int{}
+	for _, r := range append(hearers(), wrongReps()[:3]...) {
+		for _, m := range slices.Concat(allMsgs(c), heardMsgs()) {
+			if m.Kind < kindBlock || m.Kind > kindTx || !impl.MsgOk(c, m) {
+				continue
+			}
+			got, ok := impl.Hear(c, r, m)
+			want, wantOk := hearMsg(c, r, m)
+			if wantOk {
+				done[m.Kind]++
+				want.Table = impl.TableDrop(want.Table, want.View-1)
+				want.Pool = impl.PoolDrop(want.Pool, impl.State(c, want))
+			} else {
+				not[m.Kind]++
+			}
+			if ok != wantOk || !sameRep(got, want) {
+				t.Fatalf("Hear of %v by %v = %v, %v, its kind alone %v, %v", m, r, got, ok, want, wantOk)
+			}
+		}
+	}
+	for kind := kindBlock; kind <= kindTx; kind++ {
+		if done[kind] < 10 || not[kind] < 10 {
+			t.Errorf("kind %d: %d were heard, and %d were not", kind, done[kind], not[kind])
+		}
+	}
+}
+
 func TestHearsAsTheWordsSay(t *testing.T) {
 	four := impl.Conf{N: 4, Fan: 2}
 	for _, r := range allReps() {
